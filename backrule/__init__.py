@@ -1,0 +1,1 @@
+"""Rules for rows of cells, turned back or shown not to be."""
