@@ -10,17 +10,30 @@ def is_piece(rule, thing):
     return type(thing) is list and are_signs(rule[0], thing)
 
 
+def need_piece(rule, thing):
+    """Refuse what is no piece of the rule's."""
+    if not is_piece(rule, thing):
+        raise BadRow("this is no piece of the rule's")
+
+
+def need_ring(rule, thing):
+    """Refuse what is no ring of the rule's."""
+    need_piece(rule, thing)
+    if len(thing) == 0:
+        raise BadRow("a ring has one cell or more")
+
+
 def piece_on(rule, piece):
     """The piece that a piece comes to."""
-    if not is_piece(rule, piece) or len(piece) < rule[1] - 1:
-        raise BadRow("this is no piece of the rule's, or one of too few cells")
+    need_piece(rule, piece)
+    if len(piece) < rule[1] - 1:
+        raise BadRow("this piece has too few cells")
     return _signs_from(rule, piece)
 
 
 def ring_on(rule, ring):
     """The ring that a ring comes to."""
-    if not is_piece(rule, ring) or len(ring) == 0:
-        raise BadRow("this is no ring of the rule's")
+    need_ring(rule, ring)
     many = len(ring)
     # The row goes on behind the ring's last cell with its first one, and a
     # ring of fewer cells than the rule is wide is passed more than once.

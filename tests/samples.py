@@ -182,3 +182,78 @@ def misshapen_rules():
 
 def no_rules():
     return odd_things() + spoilt_rules() + misshapen_rules()
+
+
+def no_pieces(signs):
+    """Things that are no list of so many signs, each handed in as a thing of its own."""
+    wrong = no_whole_numbers() + [-1, signs, signs + 1, VERY_GREAT, -VERY_GREAT, [0], (0,)]
+    good = [0, 1, 0, 1, 1]
+    found = [good[:at] + [thing] + good[at + 1:] for at in range(len(good)) for thing in wrong]
+    found.extend([[thing] for thing in wrong])
+    found.extend([thing for thing in odd_things() if type(thing) is not list])
+    found.extend([tuple(good), "01011", b"01011", dict.fromkeys(good), 0, 1, 5, -1, VERY_GREAT])
+    found.extend([held_by_itself(), [good], LyingList(good)])
+    return found
+
+
+def rule_of(text):
+    """The rule that a text of point 5 writes, read by another way than the program's."""
+    signs, wide, table = text.split(" ")
+    return (int(signs), int(wide), tuple(map(int, table)))
+
+
+def taking(signs, wide, place):
+    """The rule by which a cell takes the sign of the cell at one place of its wide cells alone."""
+    return (signs, wide, tuple(row[place] for row in product(range(signs), repeat=wide)))
+
+
+def spread(signs, many):
+    """A row of so many cells, with no order that is plain to see."""
+    return [(at * at // 3 + at // 7 + at * at * at // 11) % signs for at in range(many)]
+
+
+# Rules that are turned back, with the before and the behind that point 12 asks for.
+TURNED = {
+    "2 1 01": (0, 0), "2 1 10": (0, 0), "3 1 120": (0, 0), "4 1 3201": (0, 0),
+    "2 2 0101": (0, 0), "2 2 1100": (0, 1), "2 3 11001100": (0, 1), "2 3 00001111": (0, 2),
+    "2 4 0101010101010101": (0, 0), "2 4 1100110011001100": (0, 1), "2 4 1111000011110000": (0, 2),
+    "2 4 0000000011111111": (0, 3), "2 4 0000111101001011": (0, 4), "2 4 1111000010110100": (0, 4),
+    "2 4 0011001101100011": (1, 2), "2 4 1100011011001100": (1, 2),
+    "3 2 120120120": (0, 0), "3 2 222000111": (0, 1), "3 2 222100011": (0, 2), "3 2 221112000": (0, 2),
+    "3 2 012012102": (1, 0),
+    "4 2 0132013201320132": (0, 0), "4 2 0101010123232323": (0, 1), "4 2 1032102310321032": (1, 0),
+    "4 2 1311222231330000": (0, 2), "4 2 0101332233220011": (1, 1), "4 2 1032102301320132": (2, 0),
+    "4 2 1121000032332312": (0, 3), "4 2 0000333121131222": (0, 3),
+}
+
+# Rules without a missing piece that are not turned back all the same.
+HALF_TURNED = [
+    "2 2 0110", "2 2 1001", "2 3 10010110", "2 3 00011110", "2 3 01101010", "2 3 10101001",
+    "2 4 0110100110010110", "2 4 1010010101011010", "2 4 1010011010011001", "3 2 012120201", "3 2 210210102",
+    "4 2 0123123023013012", "4 2 0123103223013210",
+]
+
+# Rules whose shortest missing pieces, twins or rings are longer than those of most.
+FAR = [
+    "2 3 11011010", "2 3 01011011", "2 3 11100011", "2 3 11011110", "2 3 11100010", "2 3 11010100",
+    "2 4 1110101010010101", "2 4 1110001000010101", "2 4 1011010101101010", "2 4 1001100101100110",
+    "3 2 221210102", "3 2 221112210", "3 2 222110010", "3 2 221102210",
+]
+
+
+def turned_rules():
+    return [rule_of(text) for text in TURNED]
+
+
+def half_turned_rules():
+    return [rule_of(text) for text in HALF_TURNED]
+
+
+def far_rules():
+    return [rule_of(text) for text in FAR]
+
+
+def told_apart_rules():
+    """Rules of each shape, of each of the three kinds: turned back, without a missing piece, with one."""
+    rules = all_rules() + turned_rules() + half_turned_rules() + far_rules()
+    return list(dict.fromkeys(rules))

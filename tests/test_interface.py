@@ -12,6 +12,10 @@ INTERFACE = {
         "joined": ["one", "other"],
     },
     "backrule.notes": {"shown": ["rule"], "read": ["text"]},
+    "backrule.origins": {"count_of": ["rule", "piece"], "origin_of": ["rule", "piece"]},
+    "backrule.ends": {"ends_of": ["rule", "piece"], "missing": ["rule"], "all_ends": ["rule"]},
+    "backrule.webs": {"twins": ["rule"], "rings": ["rule"]},
+    "backrule.backing": {"bounds": ["rule"], "ring_back": ["rule", "ring"], "piece_back": ["rule", "piece"]},
 }
 
 
@@ -26,13 +30,22 @@ class TestInterface(unittest.TestCase):
                     self.assertEqual(function.__module__, module_name)
 
     def test_arguments_may_be_passed_by_their_names(self):
+        from backrule.backing import bounds, piece_back, ring_back
+        from backrule.ends import ends_of
         from backrule.notes import read, shown
+        from backrule.origins import count_of, origin_of
         from backrule.rows import joined, ring_on
         from backrule.rules import cells_of
         rule = read(text="2 1 10")
         self.assertEqual(shown(rule=joined(one=rule, other=rule)), "2 1 01")
         self.assertEqual(ring_on(rule=rule, ring=[0]), [1])
         self.assertEqual(cells_of(signs=2, wide=2, number=2), [1, 0])
+        self.assertEqual(count_of(rule=rule, piece=[0]), 1)
+        self.assertEqual(origin_of(rule=rule, piece=[0]), [1])
+        self.assertEqual(ends_of(rule=rule, piece=[0]), (0,))
+        self.assertEqual(bounds(rule=rule), (0, 0))
+        self.assertEqual(ring_back(rule=rule, ring=[0]), [1])
+        self.assertEqual(piece_back(rule=rule, piece=[0]), [1])
 
 
 if __name__ == "__main__":

@@ -76,6 +76,61 @@ class TestLanguage(unittest.TestCase):
                     self.assertIn(node.id, BUILTINS, path.name)
                     self.assertIsInstance(node.ctx, ast.Load, path.name)
 
+    def test_kinds_of_code_that_the_language_does_not_have(self):
+        barred = (
+            ast.GeneratorExp, ast.Yield, ast.YieldFrom, ast.Global, ast.AnnAssign, ast.Div, ast.Starred, ast.Set,
+            ast.Pow, ast.AsyncFunctionDef, ast.Await, ast.Try, ast.TryStar, ast.With, ast.Nonlocal,
+        )
+        for path, tree in trees():
+            for node in ast.walk(tree):
+                self.assertNotIsInstance(node, barred, path.name)
+                if isinstance(node, ast.Constant):
+                    self.assertIn(type(node.value), (int, str, bool, type(None)), path.name)
+                if isinstance(node, ast.Constant) and isinstance(node.value, str):
+                    self.assertNotIn("%", node.value, path.name)
+                if isinstance(node, ast.Compare) and isinstance(node.ops[0], (ast.Is, ast.IsNot)):
+                    self.check_is(node)
+
+    def check_is(self, node):
+        self.assertEqual(len(node.ops), 1)
+        left, right = node.left, node.comparators[0]
+        asks_kind = isinstance(left, ast.Call) and left.func.id == "type" and isinstance(right, ast.Name)
+        self.assertTrue(asks_kind or isinstance(right, ast.Constant) and right.value is None, ast.dump(node))
+
+    def test_sets_stand_in_sorted_alone(self):
+        for path, tree in trees():
+            inside = [node.args[0] for node in ast.walk(tree) if isinstance(node, ast.Call)
+                      and isinstance(node.func, ast.Name) and node.func.id == "sorted" and not node.keywords]
+            for node in ast.walk(tree):
+                if isinstance(node, ast.SetComp):
+                    self.assertIn(node, inside, path.name)
+
+    def test_names(self):
+        barred = {
+            "register", "mro", "elements", "open", "input", "law", "compile", "copyright", "dir", "eval", "exec",
+            "exit", "gc", "globals", "help", "id", "license", "locals", "os", "quit", "super", "sys", "vars",
+        }
+        for path, tree in trees():
+            imported = {name.name for node in ast.walk(tree) if isinstance(node, ast.ImportFrom) for name in node.names}
+            for node in ast.walk(tree):
+                if isinstance(node, ast.Name):
+                    self.assertRegex(node.id, "^_?([A-Za-z][A-Za-z0-9_]*)?$", path.name)
+                    self.assertNotIn(node.id, barred, path.name)
+                if isinstance(node, ast.Name) and isinstance(node.ctx, ast.Store):
+                    self.assertNotIn(node.id, imported, path.name)
+                if isinstance(node, ast.Name) and isinstance(node.ctx, ast.Load):
+                    self.assertNotEqual(node.id, "_", path.name)
+
+    def test_no_two_files_import_from_each_other(self):
+        needs = {}
+        for path, tree in trees():
+            needs[path.stem] = {part.module.split(".")[1] for part in tree.body if isinstance(part, ast.ImportFrom)}
+        while needs:
+            free = [name for name in needs if not needs[name] & set(needs)]
+            self.assertTrue(free, needs)
+            for name in free:
+                del needs[name]
+
     def test_no_warnings(self):
         with warnings.catch_warnings():
             warnings.simplefilter("error")

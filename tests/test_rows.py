@@ -7,18 +7,6 @@ from backrule.rows import is_piece, joined, piece_on, ring_on
 WRITTEN = (2, 3, (0, 1, 1, 0, 1, 1, 1, 0))
 
 
-def no_pieces(signs):
-    """Things that are no list of so many signs, each handed in as a thing of its own."""
-    wrong = samples.no_whole_numbers() + [-1, signs, signs + 1, samples.VERY_GREAT, -samples.VERY_GREAT, [0], (0,)]
-    good = [0, 1, 0, 1, 1]
-    found = [good[:at] + [thing] + good[at + 1:] for at in range(len(good)) for thing in wrong]
-    found.extend([[thing] for thing in wrong])
-    found.extend([thing for thing in samples.odd_things() if type(thing) is not list])
-    found.extend([tuple(good), "01011", b"01011", dict.fromkeys(good), 0, 1, 5, -1, samples.VERY_GREAT])
-    found.extend([samples.held_by_itself(), [good], samples.LyingList(good)])
-    return found
-
-
 class TestIsPiece(unittest.TestCase):
     def test_pieces(self):
         for rule in samples.few_rules():
@@ -32,7 +20,7 @@ class TestIsPiece(unittest.TestCase):
 
     def test_no_pieces(self):
         for signs, wide in samples.SHAPES:
-            for thing in no_pieces(signs):
+            for thing in samples.no_pieces(signs):
                 with self.subTest(signs=signs, wide=wide):
                     self.assertIs(is_piece(samples.odd_rule(signs, wide), thing), False)
 
@@ -83,7 +71,7 @@ class TestPieceOn(unittest.TestCase):
 
     def test_no_pieces(self):
         for signs, wide in samples.SHAPES:
-            for thing in no_pieces(signs):
+            for thing in samples.no_pieces(signs):
                 with self.subTest(signs=signs, wide=wide), self.assertRaises(BadRow):
                     piece_on(samples.odd_rule(signs, wide), thing)
 
@@ -142,7 +130,7 @@ class TestRingOn(unittest.TestCase):
 
     def test_no_rings(self):
         for signs, wide in samples.SHAPES:
-            for thing in no_pieces(signs):
+            for thing in samples.no_pieces(signs):
                 with self.subTest(signs=signs, wide=wide), self.assertRaises(BadRow):
                     ring_on(samples.odd_rule(signs, wide), thing)
 
